@@ -1,7 +1,5 @@
 package simplex
 
-import "cmp"
-
 // breach is a line whose variable is beyond one of its bounds.
 type breach struct {
 	line   *line
@@ -10,21 +8,16 @@ type breach struct {
 	amount number // how far the variable is beyond the bound, times the scale of the line
 }
 
-// rule compares two columns by which a line can be mended; the lesser one is taken.
-type rule func(l *line, column, other int) int
-
 // repair exchanges variables until all are within their bounds, or returns the breach of a line that no column can mend, and true. If the variables of the columns are where they cost least, this stays so.
 func (t *tableau) repair() (breach, bool) {
 	t.refresh()
-	costs := t.costs()
-	choose := t.cheapest(costs)
-	careful := false
+	costs, careful := t.costs(), false
 	for {
 		found, broken := t.greatest(careful)
 		if !broken {
 			return breach{}, false
 		}
-		column, ok := t.mending(found, choose)
+		column, ok := t.mending(found, t.cheapest(costs, found.line))
 		if !ok {
 			return found, true
 		}
@@ -39,22 +32,22 @@ func (t *tableau) repair() (breach, bool) {
 
 // costs returns the costs that are least where the variables of the columns are: the first one decides, the second one if it is the same.
 func (t *tableau) costs() []*line {
-	if _, falls := t.falling(); falls {
+	if _, falls := t.falling(t.least); falls {
 		return []*line{t.spare}
 	}
 	return []*line{t.cost, t.spare}
 }
 
-// cheapest returns the rule that takes the column whose costs rise least while a line is mended; of equal ones, that of the least variable.
-func (t *tableau) cheapest(costs []*line) rule {
-	return func(l *line, column, other int) int {
+// cheapest returns the order of columns by how much the costs rise while a line is mended; of equal ones, that of the least variable is the first.
+func (t *tableau) cheapest(costs []*line, l *line) order {
+	return func(column, other int) int {
 		for _, cost := range costs {
-			order := compareProducts(cost.at(first+column), l.at(first+other), cost.at(first+other), l.at(first+column))
-			if order != 0 {
-				return order
+			rise := compareProducts(cost.at(first+column), l.at(first+other), cost.at(first+other), l.at(first+column))
+			if rise != 0 {
+				return rise
 			}
 		}
-		return cmp.Compare(t.columns[column], t.columns[other])
+		return t.least(column, other)
 	}
 }
 
@@ -98,12 +91,12 @@ func (t *tableau) breached(l *line) (breach, bool) {
 	return breach{}, false
 }
 
-// mending returns the column by which a breach is mended, and false if there is none.
-func (t *tableau) mending(b breach, choose rule) (int, bool) {
+// mending returns the first column, in an order, of those that mend a breach, and false if there is none.
+func (t *tableau) mending(b breach, choose order) (int, bool) {
 	best, found := 0, false
 	for column := range t.columns {
 		helps := b.line.signAt(first+column)*t.turn(column) == b.side
-		if helps && (!found || choose(b.line, column, best) < 0) {
+		if helps && (!found || choose(column, best) < 0) {
 			best, found = column, true
 		}
 	}

@@ -79,8 +79,9 @@ func TestUnbounded(t *testing.T) {
 	})
 }
 
-// P5.1: programs that are degenerate: with the steepest column, the first two would repeat the same exchanges for ever.
+// P5.1: programs that are degenerate: with the steepest column, some of the first ones would repeat the same exchanges for ever.
 func TestDegenerate(t *testing.T) {
+	chvatal := api.Program{Vars: open(-10, 57, 9, 24), Rows: []api.Row{row(api.Le, 0, 1, -11, -5, 18), row(api.Le, 0, 1, -3, -1, 2), row(api.Le, 1, 1)}}
 	beale := api.Program{Vars: open(-75, 15000, -2, 600), Rows: []api.Row{row(api.Le, 0, 25, -6000, -4, 900), row(api.Le, 0, 50, -9000, -2, 300), row(api.Le, 1, 0, 0, 1)}}
 	kuhn := api.Program{Vars: open(-2, -3, 1, 12), Rows: []api.Row{row(api.Le, 0, -2, -9, 1, 9), row(api.Le, 0, 1, 3, -1, -6), row(api.Le, 2, 2, 3, -1, -12)}}
 	cone := api.Program{Vars: open(-1, -1, -1)}
@@ -104,6 +105,7 @@ func TestDegenerate(t *testing.T) {
 		assignment.Rows = append(assignment.Rows, from, to)
 	}
 	check(t, []outcome{
+		{"Chvatal", chvatal, api.Optimal, "-1"},
 		{"Beale", beale, api.Optimal, "-5"},
 		{"Kuhn", kuhn, api.Optimal, "-2"},
 		{"a cone", cone, api.Optimal, "0"},

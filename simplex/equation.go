@@ -86,8 +86,8 @@ func (e *equation) narrow() {
 
 // add makes the equation that of its variable times p plus the variable of another equation times q, but with a scale that is only multiplied by p: the other variable is one of those by which this equation expressed its own.
 func (e *equation) add(p number, other *equation, q number) {
-	divisor := common(p, q)
-	p, q = quotient(p, divisor), quotient(q, divisor)
+	shared := common(p, q)
+	p, q = quotient(p, shared), quotient(q, shared)
 	fits := e.mixed == nil && other.mixed == nil && p.large == nil && q.large == nil
 	if fits && max(length(p.small)+e.width, length(q.small)+other.width) < room {
 		e.addSmall(p.small, other.small, q.small)
@@ -137,26 +137,28 @@ func (e *equation) reduce() {
 	}
 }
 
-// reduceMixed is reduce for all numbers.
+// reduceMixed is reduce for all numbers. Most of them have the same divisors as the first ones, so that it is faster to divide and to begin again if there is a rest than to look for the divisor among all of them.
 func (e *equation) reduceMixed() {
-	shared := e.mixed[scale]
-	for place := constant; place < len(e.mixed) && shared != (number{small: 1}); place++ {
-		shared = common(shared, e.mixed[place])
-	}
-	if shared != (number{small: 1}) {
-		for place, n := range e.mixed {
-			e.mixed[place] = quotient(n, shared)
+	shared, list := e.mixed[scale], make([]number, len(e.mixed))
+	for place := scale; place < len(list); place++ {
+		part, rest := divide(e.mixed[place], shared)
+		if sign(rest) != 0 {
+			shared = common(shared, rest)
+			place = scale - 1
+			continue
 		}
+		list[place] = part
 	}
+	e.mixed = list
 	e.narrow()
 }
 
 // substitute replaces the variable at a place by what the equation of this variable makes of it.
 func (e *equation) substitute(place int, other *equation) {
-	times := e.at(place)
-	if sign(times) != 0 {
+	factor := e.at(place)
+	if sign(factor) != 0 {
 		e.put(place, number{})
-		e.add(other.at(scale), other, times)
+		e.add(other.at(scale), other, factor)
 	}
 }
 

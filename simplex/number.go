@@ -139,13 +139,19 @@ func divisor(a, b uint64) uint64 {
 	return a
 }
 
+// divide returns the quotient, rounded towards zero, and the rest.
+func divide(a, b number) (number, number) {
+	if a.large == nil && b.large == nil {
+		return number{small: a.small / b.small}, number{small: a.small % b.small}
+	}
+	part, rest, _ := integer.Quo(wide(a), wide(b))
+	return packed(part), packed(rest)
+}
+
 // quotient returns a number divided by one that divides it.
 func quotient(a, b number) number {
-	if a.large == nil && b.large == nil {
-		return number{small: a.small / b.small}
-	}
-	whole, _, _ := integer.Quo(wide(a), wide(b))
-	return packed(whole)
+	part, _ := divide(a, b)
+	return part
 }
 
 // fraction returns the quotient of two numbers.

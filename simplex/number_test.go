@@ -57,6 +57,13 @@ func TestNumbers(t *testing.T) {
 				t.Fatal(i, x, y, pair.got)
 			}
 		}
+		if y.Sign() != 0 {
+			part, rest := divide(a, b)
+			wantPart, wantRest := new(big.Int).QuoRem(x, y, new(big.Int))
+			if !sound(part) || !sound(rest) || exact(part).Cmp(wantPart) != 0 || exact(rest).Cmp(wantRest) != 0 {
+				t.Fatal("divide", x, y, part, rest)
+			}
+		}
 		if sign(a) != x.Sign() {
 			t.Fatal("sign", x)
 		}
@@ -172,14 +179,23 @@ func TestCareful(t *testing.T) {
 	}
 }
 
-// P1: with several columns that make the cost fall, the least variable is taken, though another one is steeper.
-func TestLeastVariableEnters(t *testing.T) {
-	tab := newTableau(api.Program{Vars: []api.Var{{Open: true}, {Open: true, Cost: -1}, {Open: true, Cost: -9}}})
-	tab.columns = []int{2, 0, 1}
-	tab.cost.put(first, number{small: -9})
-	tab.cost.put(first+1, number{})
-	tab.cost.put(first+2, number{small: -1})
-	if column, falls := tab.falling(); !falls || column != 2 {
-		t.Error(column, falls)
+// P1: columns are ordered by how fast the cost falls, or by their variables; those that make it rise do not count.
+func TestFalling(t *testing.T) {
+	tab := newTableau(api.Program{Vars: []api.Var{{Open: true}, {Open: true, Cost: -1}, {Open: true, Cost: -9}, {Open: true, Cost: -9}, {Open: true, Cost: 20}}})
+	tab.columns = []int{4, 3, 0, 2, 1}
+	for column, variable := range tab.columns {
+		tab.cost.put(first+column, number{small: tab.program.Vars[variable].Cost})
+	}
+	if column, falls := tab.falling(tab.least); !falls || column != 4 {
+		t.Error("least", column, falls)
+	}
+	if column, falls := tab.falling(tab.steepest); !falls || column != 3 {
+		t.Error("steepest", column, falls)
+	}
+	for column := range tab.columns {
+		tab.cost.put(first+column, number{small: int64(column)})
+	}
+	if column, falls := tab.falling(tab.least); falls {
+		t.Error("none", column)
 	}
 }

@@ -1,5 +1,10 @@
 package simplex
 
+import "cmp"
+
+// order compares two columns; the lesser one is taken.
+type order func(column, other int) int
+
 // stop is where a variable meets a bound while that of a column turns: after the way amount / rate.
 type stop struct {
 	line     *line // nil if it is the variable of the column itself
@@ -9,31 +14,49 @@ type stop struct {
 	rate     number
 }
 
-// descend exchanges variables that are within their bounds until none of the columns can make the cost fall, or returns a column by which it falls for ever, and true. The least variable enters and leaves, so that this ends.
+// descend exchanges variables that are within their bounds until none of the columns can make the cost fall, or returns a column by which it falls for ever, and true.
 func (t *tableau) descend() (int, bool) {
+	choose := t.steepest
 	for {
-		column, falls := t.falling()
+		column, falls := t.falling(choose)
 		if !falls {
 			return 0, false
 		}
 		nearest, found := t.nearest(column)
-		switch {
-		case !found:
+		if !found {
 			return column, true
-		case nearest.line == nil:
+		}
+		// Where the cost stays the same, only the least variables are sure to lead out.
+		choose = t.least
+		if sign(nearest.amount) != 0 {
+			choose = t.steepest
+		}
+		if nearest.line == nil {
 			t.cross(column)
-		default:
+		} else {
 			t.exchange(nearest.line, column, nearest.bound)
 		}
 	}
 }
 
-// falling returns the column of the least variable that makes the cost fall, and false if there is none.
-func (t *tableau) falling() (int, bool) {
+// steepest compares two columns by how fast they make the cost fall, the fastest first.
+func (t *tableau) steepest(column, other int) int {
+	one := number{small: 1}
+	slower := compareProducts(t.cost.at(first+other), one, t.cost.at(first+column), one)
+	return cmp.Or(slower, t.least(column, other))
+}
+
+// least compares two columns by their variables.
+func (t *tableau) least(column, other int) int {
+	return cmp.Compare(t.columns[column], t.columns[other])
+}
+
+// falling returns the first column, in an order, of those that make the cost fall, and false if there is none.
+func (t *tableau) falling(choose order) (int, bool) {
 	best, found := 0, false
-	for column, variable := range t.columns {
+	for column := range t.columns {
 		falls := t.cost.signAt(first+column)*t.turn(column) < 0
-		if falls && (!found || variable < t.columns[best]) {
+		if falls && (!found || choose(column, best) < 0) {
 			best, found = column, true
 		}
 	}
@@ -50,8 +73,8 @@ search:
 			continue search
 		}
 		if found {
-			order := compareProducts(next.amount, best.rate, best.amount, next.rate)
-			if order > 0 || order == 0 && next.variable > best.variable {
+			later := compareProducts(next.amount, best.rate, best.amount, next.rate)
+			if later > 0 || later == 0 && next.variable > best.variable {
 				continue search
 			}
 		}
