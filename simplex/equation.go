@@ -127,11 +127,16 @@ func (e *equation) reduce() {
 	}
 	shared := uint64(e.small[scale])
 	for place := constant; place < len(e.small) && shared > 1; place++ {
-		shared = divisor(shared, magnitude(e.small[place]))
+		// Most numbers are 0, and most others have all divisors that the ones before them have.
+		if n := magnitude(e.small[place]); n != 0 && n%shared != 0 {
+			shared = divisor(shared, n%shared)
+		}
 	}
 	if shared > 1 {
-		for place := range e.small {
-			e.small[place] /= int64(shared)
+		for place, n := range e.small {
+			if n != 0 {
+				e.small[place] = n / int64(shared)
+			}
 		}
 		e.width -= bits.Len64(shared) - 1
 	}

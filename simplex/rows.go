@@ -74,6 +74,26 @@ func (t *tableau) together(over func(l *line) number, whole func(column int) num
 	return list, below
 }
 
+// short is such that the sum of MaxVars numbers with less bits is small.
+const short = room - 9
+
+// sum returns the sum of terms at a point or at a direction, times the scale.
+func (x position) sum(terms []api.Term) number {
+	total, rest := int64(0), number{}
+	for _, term := range terms {
+		n := x.numbers[term.Var]
+		switch {
+		case n.large == nil && n.small == 0:
+			// Most components are 0 in many programs.
+		case n.large == nil && length(n.small)+length(term.Coef) < short:
+			total += n.small * term.Coef
+		default:
+			rest = plus(rest, times(n, number{small: term.Coef}))
+		}
+	}
+	return plus(number{small: total}, rest)
+}
+
 // excess is how far the sum of a row is beyond its bound.
 type excess struct {
 	row    int
@@ -87,9 +107,11 @@ func (t *tableau) admit(x position) bool {
 		one := number{small: 1}
 		return compareProducts(b.amount, one, a.amount, one)
 	})
+	rows := []int{}
 	for _, e := range violated[:min(batch, len(violated))] {
-		t.enter(e.row)
+		rows = append(rows, e.row)
 	}
+	t.enter(rows)
 	return len(violated) > 0
 }
 
@@ -101,13 +123,7 @@ search:
 		if t.entered[i] {
 			continue search
 		}
-		amount := negative(times(number{small: row.Bound}, x.scale))
-		for _, term := range row.Terms {
-			// Most components are 0 in many programs.
-			if n := x.numbers[term.Var]; sign(n) != 0 {
-				amount = plus(amount, times(n, number{small: term.Coef}))
-			}
-		}
+		amount := plus(x.sum(row.Terms), negative(times(number{small: row.Bound}, x.scale)))
 		side := sign(amount)
 		if side > 0 && row.Kind != api.Ge || side < 0 && row.Kind != api.Le {
 			list = append(list, excess{i, amount})

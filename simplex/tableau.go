@@ -103,8 +103,8 @@ func (t *tableau) cross(column int) {
 	t.values[column] += way
 }
 
-// enter adds the equation of the sum of a row.
-func (t *tableau) enter(row int) {
+// enter adds the equations of the sums of rows.
+func (t *tableau) enter(rows []int) {
 	columns, lines := map[int]int{}, map[int]*line{}
 	for column, variable := range t.columns {
 		columns[variable] = column
@@ -112,17 +112,19 @@ func (t *tableau) enter(row int) {
 	for _, l := range t.lines {
 		lines[l.variable] = l
 	}
-	sum := &line{len(t.program.Vars) + row, newEquation(len(t.columns))}
-	for _, term := range t.program.Rows[row].Terms {
-		coef := times(sum.at(scale), number{small: term.Coef})
-		if l, ok := lines[term.Var]; ok {
-			sum.add(l.at(scale), &l.equation, coef)
-			continue
+	for _, row := range rows {
+		sum := &line{len(t.program.Vars) + row, newEquation(len(t.columns))}
+		for _, term := range t.program.Rows[row].Terms {
+			coef := times(sum.at(scale), number{small: term.Coef})
+			if l, ok := lines[term.Var]; ok {
+				sum.add(l.at(scale), &l.equation, coef)
+				continue
+			}
+			column := columns[term.Var]
+			sum.shift(first+column, coef, 1)
+			sum.shift(constant, coef, t.values[column])
 		}
-		column := columns[term.Var]
-		sum.shift(first+column, coef, 1)
-		sum.shift(constant, coef, t.values[column])
+		t.lines = append(t.lines, sum)
+		t.entered[row] = true
 	}
-	t.lines = append(t.lines, sum)
-	t.entered[row] = true
 }
