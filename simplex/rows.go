@@ -103,6 +103,9 @@ type excess struct {
 // admit enters some of the rows that a point or a direction violates, and reports whether there are any.
 func (t *tableau) admit(x position) bool {
 	violated := t.violated(x)
+	if len(violated) == 0 {
+		return false
+	}
 	slices.SortStableFunc(violated, func(a, b excess) int {
 		one := number{small: 1}
 		return compareProducts(b.amount, one, a.amount, one)
@@ -112,7 +115,7 @@ func (t *tableau) admit(x position) bool {
 		rows = append(rows, e.row)
 	}
 	t.enter(rows)
-	return len(violated) > 0
+	return true
 }
 
 // violated returns the rows that have not been entered and that a point or a direction violates.
