@@ -26,7 +26,7 @@ func (s *search) proof(root *node) []api.Node {
 			list = append(list, api.Node{Kind: api.NodeFarkas, Multipliers: trimmed(y)})
 			return
 		}
-		list = append(list, api.Node{Kind: api.NodeSplit, Var: n.split.variable, At: n.split.at})
+		list = append(list, api.Node{Kind: api.NodeSplit, Var: n.variable, At: n.at})
 		collect(n.parts[0])
 		collect(n.parts[1])
 	}

@@ -22,10 +22,11 @@ type search struct {
 
 // node is a program of the search: that of the node above it with narrower bounds, and with further cuts.
 type node struct {
-	cuts    []api.Cut
-	outcome api.Outcome // of the relaxation with all cuts, those of the nodes above among them
-	split   split
-	parts   [2]*node
+	cuts     []api.Cut
+	outcome  api.Outcome // of the relaxation with all cuts, those of the nodes above among them
+	variable int         // at which it is split, if it has parts
+	at       int64
+	parts    [2]*node
 }
 
 // newSearch returns a search in which nothing is known yet.
@@ -60,10 +61,14 @@ func (s *search) run() (*node, api.Errno) {
 	explore = func(p api.Program, o api.Outcome) *node {
 		n := &node{outcome: o}
 		p = s.sharpen(p, n)
+		x := n.outcome.Point
+		// Later on, only the bound and its proof are needed.
+		n.outcome.Point = nil
 		if s.closed(n.outcome) {
 			return n
 		}
-		n.split = s.choose(p, n.outcome.Point)
+		best := s.choose(p, x)
+		n.variable, n.at = best.variable, best.at
 		// The tries may have found a solution after which nothing is left to do here.
 		if s.closed(n.outcome) {
 			return n
@@ -73,15 +78,16 @@ func (s *search) run() (*node, api.Errno) {
 			return n
 		}
 		s.splits++
-		for _, i := range n.split.order() {
-			n.parts[i] = explore(n.split.programs[i], n.split.outcomes[i])
+		for _, i := range best.order() {
+			n.parts[i] = explore(best.programs[i], best.outcomes[i])
 			if err != api.OK || s.closed(n.outcome) {
 				return n
 			}
 		}
 		return n
 	}
-	return explore(s.program, s.relax(s.program)), err
+	root := explore(s.program, s.relax(s.program))
+	return root, err
 }
 
 // relax returns the outcome of a program's relaxation, and takes its point if it is a solution.
